@@ -554,6 +554,7 @@ func TestDoOnAllShortTexts(t *testing.T) {
 	lits := []string{"", "a", "b", "\n", "aa", "ab", "ba", "a\n", "\na", "aba"}
 	wordsOf("ab\n", 6, func(b string) {
 		wantText(t, copyOf(), b, b)
+		wantDo(t, needOf(), oks(b), api.Val{Ok: b != "", B: b})
 		wantText(t, sortOf(), plainSort(b), b)
 		wantText(t, countOf(), fmt.Sprintf("%d\n", len(plainLines(b))), b)
 		wantText(t, concatOf(3), b+"-"+b, b, "-", b)
